@@ -1,0 +1,1 @@
+"""Onemember: designs of objects that keep sets, decided by looking at one member."""
