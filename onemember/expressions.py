@@ -3,9 +3,9 @@
 from onemember.errors import InvalidForm, InvalidNames, InvalidSets, InvalidText
 from onemember.errors import NotAnExpression, TooManyFields, UnknownField
 from onemember.forms import GIVEN, NONE, check_depth, check_leaves, form_fields, form_leaves, form_meets
-from onemember.forms import form_size, form_text, is_field, read_counted
+from onemember.forms import form_size, form_text, form_value, is_field, read_counted
 from onemember.members import Members, check_members
-from onemember.names import wrong_or_twice_at
+from onemember.names import choices, wrong_or_twice_at
 
 MOST_COMPARED = 8
 
@@ -89,7 +89,7 @@ class Expression:
 
     def of(self, sets, *, given=None):
         """The Members of the expression, for sets of members, told as pairs (field, Members)."""
-        return form_members(self._form, all_sets(self._fields, sets, given))
+        return form_value(self._form, all_sets(self._fields, sets, given))
 
     def meets(self, inside, *, given=False):
         """Whether somebody who is in just the fields inside, and given or not, is in the expression."""
@@ -161,7 +161,7 @@ class Fact:
     def is_kept(self, sets, *, given=None):
         """Whether the fact holds, for sets of members, told as pairs (field, Members)."""
         table = all_sets(self.fields, sets, given)
-        return form_members(self._left.form, table) <= form_members(self._right.form, table)
+        return form_value(self._left.form, table) <= form_value(self._right.form, table)
 
 
 def same_sets(one, other):
@@ -181,14 +181,6 @@ def differing(one, other):
             if form_meets(one.form, inside, given) != form_meets(other.form, inside, given):
                 return (inside, given)
     return None
-
-
-def choices(names):
-    """All ascending tuples of some of these ascending names, in Python's order."""
-    if not names:
-        return [()]
-    later = choices(names[1:])
-    return [()] + [(names[0], *choice) for choice in later] + later[1:]
 
 
 def fields_of_two(one, other):
@@ -238,19 +230,3 @@ def is_field_set(value):
     if not isinstance(value, tuple) or len(value) != 2:
         return False
     return is_field(value[0]) and isinstance(value[1], Members)
-
-
-def form_members(form, table):
-    """The Members of a form, with the Members for each leaf."""
-    if isinstance(form, str):
-        return table[form]
-    sign, left, right = form
-    one = form_members(left, table)
-    other = form_members(right, table)
-    if sign == "|":
-        return one | other
-    if sign == "&":
-        return one & other
-    if sign == "-":
-        return one - other
-    return one ^ other

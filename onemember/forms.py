@@ -38,6 +38,24 @@ def is_triple(value):
     return isinstance(value, tuple) and len(value) == 3 and isinstance(value[0], str) and value[0] in SIGNS
 
 
+def is_form_of(value, names):
+    """Whether a value is a form within the limits of which each leaf is one of these names."""
+    leaves = 0
+    parts = [(value, 1)]
+    while parts:
+        part, level = parts.pop()
+        # Looked at as it goes, so that a form of any size is left as soon as it is too large.
+        if level > MOST_DEPTH:
+            return False
+        if is_triple(part):
+            parts.extend([(side, level + 1) for side in part[1:]])
+        elif part in names and leaves < MOST_LEAVES:
+            leaves = leaves + 1
+        else:
+            return False
+    return True
+
+
 def check_leaves(leaves):
     """Refuse so many leaves if they are too many."""
     if leaves > MOST_LEAVES:
@@ -139,3 +157,28 @@ def form_meets(form, inside, given):
     if sign == "-":
         return one and not other
     return one != other
+
+
+def form_value(form, table):
+    """What a form comes to, if the table has Members for each leaf, or for each leaf a number as a set of bits."""
+    if isinstance(form, str):
+        return table[form]
+    sign, left, right = form
+    one = form_value(left, table)
+    other = form_value(right, table)
+    if sign == "|":
+        return one | other
+    if sign == "&":
+        return one & other
+    if sign == "-":
+        # Numbers differ as sets do only if all bits of the second one are in the first one.
+        return one - (one & other)
+    return one ^ other
+
+
+def form_renamed(form, names):
+    """The form with other names, where the dict has the new one for a leaf."""
+    if isinstance(form, str):
+        return names.get(form, form)
+    sign, left, right = form
+    return (sign, form_renamed(left, names), form_renamed(right, names))

@@ -29,3 +29,11 @@ def wrong_or_twice_at(values):
             return at
         seen[value] = True
     return None
+
+
+def choices(names):
+    """All ascending tuples of some of these ascending names, in Python's order."""
+    if not names:
+        return [()]
+    later = choices(names[1:])
+    return [()] + [(names[0], *choice) for choice in later] + later[1:]

@@ -3,8 +3,11 @@
 import unittest
 
 from onemember import errors
+from onemember.designs import Design
 from onemember.expressions import Expression, Fact
+from onemember.keepers import Hall, Keeper, RosterKeeper
 from onemember.members import Change, Members
+from onemember.samples import sample_design
 
 BASES = (errors.SetError, errors.StateError, errors.LimitError)
 
@@ -37,6 +40,8 @@ def own_objects():
         Members(), Members("ann", "bob"), Change(Members(), Members()), Change(Members("ann"), Members("bob")),
         Expression("a"), Expression(("|", "a", "given")), Fact(Expression("a"), Expression("b")),
         errors.NotMembers(5), errors.Busy(),
+        sample_design(), Design(("a",), ("m",), (), ()),
+        Keeper(sample_design()), RosterKeeper(sample_design(), Members("ann")), Hall(),
     ]
 
 
@@ -78,7 +83,7 @@ class CloseCase(unittest.TestCase):
         self.assertEqual([kind.__base__], [base for base in BASES if isinstance(found, base)])
         self.assertEqual(vars(found).keys(), told.keys())
         for name, value in told.items():
-            if name in ("index", "limit"):
+            if name in ("index", "limit", "found", "name"):
                 self.same(getattr(found, name), value)
             else:
                 self.assertIs(getattr(found, name), value)
@@ -101,7 +106,44 @@ def shown(value):
         return (value.__class__.__name__, str(value))
     if isinstance(value, Change):
         return ("Change", str(value.came), str(value.went))
+    if isinstance(value, Design):
+        return ("Design", str(value))
+    if isinstance(value, Keeper):
+        return picture(value)
+    if isinstance(value, Hall):
+        return [(name, picture(value[name])) for name in value]
+    if isinstance(value, tuple):
+        return tuple(shown(one) for one in value)
     return repr(value)[:2000]
+
+
+def told(state):
+    """The state of a keeper, with the names of its sets."""
+    return (state[0], tuple((field, members.names) for field, members in state[1]))
+
+
+def picture(keeper):
+    """All that can be seen of a keeper, also what undo brings back."""
+    design = keeper.design
+    seen = [keeper.__class__.__name__, str(design), told(keeper.state), keeper.mode, keeper.busy, len(keeper)]
+    seen.append([(call, shown(argument)) for call, argument in keeper.log])
+    seen.append([(field, keeper.members(field).names) for field in design.fields])
+    seen.append([(view, keeper.shown(view).names) for view in design.view_names])
+    seen.append([str(fact) for fact in keeper.facts])
+    if not keeper.busy:
+        seen.append(pasts(keeper))
+    return seen
+
+
+def pasts(keeper):
+    """The states that undo brings back, one after another."""
+    states = []
+    with keeper.trial():
+        keeper.facts = ()
+        while len(keeper):
+            changes = keeper.undo()
+            states.append((told(keeper.state), [(view, shown(change)) for view, change in changes]))
+    return states
 
 
 def who(form, sets, given):

@@ -1,9 +1,10 @@
-"""The numbers of onemember.limits, the classes of onemember.errors, and the interface of the first files."""
+"""The numbers of onemember.limits, the classes of onemember.errors, and the interface of all files so far."""
 
 import inspect
 import unittest
 
-from onemember import errors, expressions, limits, members
+from onemember import alike, deciding, designs, errors, expressions, histories, keepers, limits, loops, members, order
+from onemember import samples
 
 VALUE = (
     "NotMembers NotAChange NotAnExpression NotAFact NotADesign NotAKeeper InvalidName InvalidForm InvalidText"
@@ -63,6 +64,30 @@ class ErrorsTest(unittest.TestCase):
         self.assertEqual(sorted(found), sorted(listed))
 
 
+FUNCTIONS = {
+    expressions: {"same_sets": "(one, other)", "differing": "(one, other)"},
+    samples: {"sample_design": "()"},
+    keepers: {
+        "attempt": "(keeper, act)", "set_facts": "(keeper, facts)", "put_keeper": "(hall, name, design)",
+        "get_keeper": "(hall, name)",
+    },
+    histories: {
+        "play": "(design, history)", "outcomes": "(design, history)", "history_text": "(history)",
+        "read_history": "(text)", "compare": "(design, one, other)", "histories": "(design, names, *, most)",
+    },
+    deciding: {
+        "nodes": "(design)", "way_to": "(design, mode, inside)", "always": "(fact, design, *, mode=None)",
+        "breaking": "(fact, design, *, mode=None)", "apart": "(one, other, design, *, mode=None)",
+        "meeting": "(one, other, design, *, mode=None)", "bounded": "(terms, design, *, mode=None)",
+        "growing": "(terms, design, *, mode=None)", "been": "(one, other, design)", "stays": "(one, design)",
+        "comes": "(one, other, design)",
+    },
+    alike: {name: "(first, second)" for name in ("alike", "stands_in", "parting", "falling")},
+    loops: {name: "(design, one, many, *, rule='stop')" for name in ("same_loop", "loop_parting")},
+    order: {name: "(design, first, second)" for name in ("commute", "disorder")},
+}
+
+
 def parameters(act):
     """The parameters of a function, as a text."""
     return str(inspect.signature(act))
@@ -92,10 +117,37 @@ class InterfaceTest(unittest.TestCase):
             "__init__": "(self, left, right)", "read": "(text)", "is_kept": "(self, sets, *, given=None)",
         }, "left right form fields has_given", "__str__ __repr__ __eq__")
 
+    def test_design(self):
+        self.check(designs.Design, {
+            "__init__": "(self, fields, modes, calls, views)", "sort_of": "(self, call)", "case_of": "(self, call, mode)",
+            "view_of": "(self, name, mode)", "with_call": "(self, call)", "without": "(self, name)",
+            "renamed": "(self, pairs)", "read": "(text)",
+        }, "fields modes calls views names view_names", "__str__ __repr__ __len__ __eq__ __contains__")
+
+    def test_keeper(self):
+        self.check(keepers.Keeper, {
+            "__init__": "(self, design)", "do": "(self, call, argument=None)", "__call__": "(self, call, argument=None)",
+            "can": "(self, call, argument=None)", "undo": "(self)", "do_all": "(self, *deeds, watch=None)",
+            "trial": "(self)", "members": "(self, field)", "shown": "(self, view)",
+        }, "design mode log state busy facts", "__len__ __repr__")
+
+    def test_roster_keeper(self):
+        self.check(keepers.RosterKeeper, {
+            "__init__": "(self, design, roster)", "do": "(self, call, argument=None)", "can": "(self, call, argument=None)",
+            "__call__": "(self, call, argument=None)",
+        }, "roster", "")
+        self.assertEqual(keepers.RosterKeeper.__bases__, (keepers.Keeper,))
+
+    def test_hall(self):
+        self.check(keepers.Hall, {"__init__": "(self)", "do_all": "(self, *deeds)"}, "names",
+                   "__setitem__ __getitem__ __contains__ __len__ __iter__")
+
     def test_functions(self):
-        for act in (expressions.same_sets, expressions.differing):
-            self.assertEqual(parameters(act), "(one, other)")
-            self.assertEqual(act.__module__, "onemember.expressions")
+        for module, functions in FUNCTIONS.items():
+            for name, told in functions.items():
+                act = vars(module)[name]
+                self.assertEqual((name, parameters(act)), (name, told))
+                self.assertEqual((name, act.__module__), (name, module.__name__))
 
     def check(self, kind, methods, properties, signs):
         """The class defines all this itself."""
