@@ -51,52 +51,36 @@ def as_cases(cases):
 
 
 def take_call_line(calls, word, rest):
-    """Put a line of a call, of a case or of what stands in a case into the calls; whether it is one."""
+    """Put a line of a call, of a case or of what stands in a case into the calls; whether it can stand there."""
     words = rest.split(" ")
     cases = calls[-1][2] if calls else []
     if word == "call" and len(words) == 2:
-        return put(calls, (words[0], words[1], []))
-    if word == "case" and len(words) == 2 and calls:
-        return put(cases, (words[0], [], [], words[1]))
-    if word == "fact" and cases:
-        return put(cases[-1][1], read_fact(rest))
-    if word == "set" and cases:
-        return put(cases[-1][2], read_update(rest))
-    return False
-
-
-def take_view_line(views, word, rest):
-    """Put a line of a view, or of a form that it shows, into the views; whether it is one."""
-    if word == "view":
-        return put(views, (rest, []))
-    if word == "show" and views:
-        return put(views[-1][1], read_form(rest))
-    return False
-
-
-def put(rows, row):
-    """Put a row behind the others, if it was read; whether it was."""
-    if row is None:
+        calls.append((words[0], words[1], []))
+    elif word == "case" and len(words) == 2 and calls:
+        cases.append((words[0], [], [], words[1]))
+    elif word == "fact" and cases:
+        left, _, right = rest.partition(" <= ")
+        cases[-1][1].append((read_form(left), read_form(right)))
+    elif word == "set" and cases:
+        field, _, form = rest.partition(" = ")
+        cases[-1][2].append((field, read_form(form)))
+    else:
         return False
-    rows.append(row)
     return True
 
 
-def read_fact(text):
-    """The pair of forms with this text of a fact, or None."""
-    left_text, _, right_text = text.partition(" <= ")
-    left, right = read_form(left_text), read_form(right_text)
-    return None if left is None or right is None else (left, right)
-
-
-def read_update(text):
-    """The pair (field, form) with this text, whatever stands in the place of the field, or None."""
-    field, _, form_part = text.partition(" = ")
-    form = read_form(form_part)
-    return None if form is None else (field, form)
+def take_view_line(views, word, rest):
+    """Put a line of a view, or of a form that it shows, into the views; whether it can stand there."""
+    if word == "view":
+        views.append((rest, []))
+    elif word == "show" and views:
+        views[-1][1].append(read_form(rest))
+    else:
+        return False
+    return True
 
 
 def read_form(text):
-    """The form with this text, however large, or None."""
+    """The form with this text, however large, or None, which no design takes for a form."""
     counted = read_counted(text)
     return None if counted is None else counted[0]

@@ -7,7 +7,7 @@ from onemember.errors import Broken, Busy, InvalidArgument, InvalidDeeds, Invali
 from onemember.errors import Refused, Stopped, Stranger, UnknownCall, UnknownKeeper, WrongMode
 from onemember.expressions import Fact
 from onemember.keepers import Hall, Keeper, RosterKeeper, attempt, get_keeper, put_keeper
-from onemember.members import Members
+from onemember.members import Change, Members
 from onemember.samples import sample_design
 from tests.helper import CloseCase, picture, plain_values, strange_values, told
 from tests.plain import any_deed, lively_designs
@@ -43,8 +43,9 @@ class RosterTest(CloseCase):
         keeper.do("invite", Members())
         self.assertEqual((len(keeper), told(keeper.state)[1]), (4, (("invited", ("ann", "bob")), ("inside", ("ann",)))))
         self.assertEqual([keeper.can("enter", "bob"), keeper.can("enter", "eve"), keeper.can("close")], [True, False, True])
-        keeper.do("close")
-        keeper.undo()
+        for act in (keeper.do, keeper):
+            self.assertEqual(act("close"), (("awaited", Change(Members(), Members("bob"))),))
+            keeper.undo()
         self.assertEqual((len(keeper), repr(keeper)), (4, "RosterKeeper(day, 4 deeds)"))
 
     def test_strangers(self):
