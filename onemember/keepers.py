@@ -21,6 +21,8 @@ class Keeper:
         self._past = ()
         self._facts = ()
         self._busy = False
+        # What the innermost block of a trial puts back, or None.
+        self._entered = None
 
     @property
     def design(self):
@@ -116,9 +118,19 @@ class Keeper:
                 self._now, self._past = now, past
 
     def trial(self):
-        """A block at whose end everything is as at its beginning."""
+        """The keeper, for a block at whose end everything is as at its beginning."""
         self._check_idle()
-        return Trial(self)
+        return self
+
+    def __enter__(self):
+        self._entered = Entered(self, self._entered)
+        return self
+
+    def __exit__(self, kind, value, trace):
+        self._now = self._entered.now
+        self._past = self._entered.past
+        self._facts = self._entered.facts_then
+        self._entered = self._entered.outer
 
     def members(self, field):
         """The Members of a field."""
@@ -186,31 +198,13 @@ class RosterKeeper(Keeper):
                 raise Stranger(name)
 
 
-class Trial:
-    """A block at whose end its keeper is as when the block was entered."""
-
-    def __init__(self, keeper):
-        self._keeper = keeper
-        self._entered = None
-
-    def __enter__(self):
-        self._entered = Entered(self._keeper, self._entered)
-        return self._keeper
-
-    def __exit__(self, kind, value, trace):
-        self._keeper._now = self._entered.now
-        self._keeper._past = self._entered.past
-        self._keeper._facts = self._entered.kept
-        self._entered = self._entered.outer
-
-
 class Entered:
-    """What a keeper was like when a block was entered; outer is that of the same trial around it, or None."""
+    """What a keeper was like when the block of a trial was entered; outer is that of the block around it, or None."""
 
     def __init__(self, keeper, outer):
         self.now = keeper._now
         self.past = keeper._past
-        self.kept = keeper._facts
+        self.facts_then = keeper._facts
         self.outer = outer
 
 

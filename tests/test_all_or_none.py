@@ -174,6 +174,12 @@ class TrialTest(CloseCase):
         self.assertEqual(picture(self.keeper), later)
         self.keeper.undo()
 
+    def test_a_trial_that_is_not_entered(self):
+        self.keeper.trial()
+        self.keeper.do("leave", "ann")
+        self.assertEqual(len(self.keeper), 3)
+        self.keeper.undo()
+
     def test_two_keepers(self):
         other = begun()
         with self.keeper.trial(), other.trial():
