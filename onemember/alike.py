@@ -3,7 +3,10 @@
 from onemember.designs import check_design
 from onemember.errors import NotComparable
 from onemember.forms import form_value
-from onemember.steps import ALONE, all_moves, beginning, behind, deed_rows, first_ways, is_in, leaf_bits
+from onemember.steps import ALONE, all_moves, behind, deed_rows, first_ways, is_closed, is_in, leaf_bits
+
+# The states of two designs at the beginning, as told by Both.
+AT_FIRST = (0, 0, 0, 0)
 
 
 def alike(first, second):
@@ -18,36 +21,38 @@ def stands_in(first, second):
 
 def parting(first, second):
     """The first history, with x alone, and the first thing that show that two designs are not alike, or None."""
-    return first_sign(first, second, lambda here, there: (here is None) != (there is None))
+    return first_sign(first, second, is_parted)
 
 
 def falling(first, second):
     """The first history, with x alone, and the first thing that show that one does not stand in, or None."""
-    return first_sign(first, second, lambda here, there: here is None and there is not None)
+    return first_sign(first, second, is_fallen)
+
+
+def is_parted(here, there):
+    """Whether just one of two designs grants a deed, of which the states behind it are told, None if refused."""
+    return (here is None) != (there is None)
+
+
+def is_fallen(here, there):
+    """Whether the second design grants a deed that the first one refuses."""
+    return here is None and there is not None
 
 
 def first_sign(first, second, differs):
-    """The first triple (history, word, what), or None.
-
-    The function tells, for the states behind a deed in both designs (None if refused), whether they differ.
-    """
+    """The first triple (history, word, what), or None, where differs is is_parted or is_fallen."""
     check_design(first)
     check_design(second)
-    check_comparable(first, second)
-    both = Both(first, second)
-    for pair, way in both.ways().items():
-        sign = both.sign_at(pair, differs)
-        if sign is not None:
-            return (way, *sign)
-    return None
+    if not are_comparable(first, second):
+        raise NotComparable("other modes, views or calls")
+    return Both(first, second).first_sign(AT_FIRST, differs)
 
 
-def check_comparable(first, second):
-    """Refuse two designs that can not be compared."""
+def are_comparable(first, second):
+    """Whether two designs can be compared."""
     if first.modes != second.modes or set(first.view_names) != set(second.view_names):
-        raise NotComparable("other modes or views")
-    if set([call[:2] for call in first.calls]) != set([call[:2] for call in second.calls]):
-        raise NotComparable("other calls")
+        return False
+    return set([call[:2] for call in first.calls]) == set([call[:2] for call in second.calls])
 
 
 class Both:
@@ -61,10 +66,21 @@ class Both:
         self._rows = deed_rows(first, ALONE)
         self._views = [(name, view_bits(first, name), view_bits(second, name)) for name in first.view_names]
 
-    def ways(self):
-        """For each pair that both designs reach together, the first history to it."""
-        start = beginning(ALONE)
-        return first_ways(start + start, self._rows, lambda pair, row: self.step(pair, row))
+    def first_sign(self, start, differs):
+        """The first triple (history, word, what) behind a pair, with the deeds that lead on from it, or None."""
+        for pair, way in self.ways(start).items():
+            sign = self.sign_at(pair, differs)
+            if sign is not None:
+                return (way, *sign)
+        return None
+
+    def ways(self, start):
+        """For each pair that both designs reach together from a pair, the first history to it."""
+        return first_ways(start, self._rows, lambda pair, row: self.step(pair, row))
+
+    def has_all_behind(self, pairs):
+        """Whether there is in a dict, with each of its pairs, each pair that the deeds lead to."""
+        return is_closed(pairs, self._rows, lambda pair, row: self.step(pair, row))
 
     def step(self, pair, row):
         """The pair behind a deed, or None if it is refused in one of the designs."""

@@ -1,13 +1,13 @@
 """Questions to a design, decided by looking at one member or at two: nodes, for ever, apart, bounded, the past."""
 
 from onemember.designs import check_design
-from onemember.errors import InvalidFields, InvalidTerms, NotAFact, UnknownField, UnknownMode
-from onemember.expressions import Expression, Fact, check_expression
+from onemember.errors import InvalidFields, InvalidTerms, UnknownField, UnknownMode
+from onemember.expressions import Expression, check_expression, check_fact
 from onemember.forms import GIVEN, form_value
 from onemember.kinds import is_integer, is_tuple_of
 from onemember.limits import MOST_TERMS
-from onemember.steps import ALONE, TOGETHER, all_moves, beginning, behind, deed_rows, fields_of, first_ways, is_in
-from onemember.steps import leaf_bits, reached
+from onemember.steps import ALONE, TOGETHER, all_moves, beginning, behind, deed_rows, fault_bits, fields_of, first_ways
+from onemember.steps import is_in, leaf_bits, reached
 
 
 def nodes(design):
@@ -36,11 +36,10 @@ def always(fact, design, *, mode=None):
 
 def breaking(fact, design, *, mode=None):
     """The first history, with x alone, behind which a fact does not hold, or None."""
-    if not isinstance(fact, Fact):
-        raise NotAFact(fact)
+    check_fact(fact)
     check_question(design, (fact.left, fact.right), mode)
-    left, right = bits_of(fact.left, design), bits_of(fact.right, design)
-    return first_with(design, ALONE, mode, lambda state: is_in(left, state[1]) and not is_in(right, state[1]))
+    faults = fault_bits(fact.form, leaf_bits(design.fields))
+    return first_with(design, ALONE, mode, lambda state: is_in(faults, state[1]))
 
 
 def apart(one, other, design, *, mode=None):

@@ -25,6 +25,7 @@ class Design:
         self._names = tuple([name for name, _, _ in calls])
         self._view_names = tuple([name for name, _ in views])
         self._cases = {(name, case[0]): case for name, _, cases in calls for case in cases}
+        self._shown = {(name, mode): Expression(form) for name, forms in views for mode, form in zip(modes, forms)}
 
     @staticmethod
     def read(text):
@@ -106,8 +107,7 @@ class Design:
             raise UnknownView(name)
         if mode not in self._modes:
             raise UnknownMode(mode)
-        forms = self._views[self._view_names.index(name)][1]
-        return Expression(forms[self._modes.index(mode)])
+        return self._shown[name, mode]
 
     def with_call(self, call):
         """The design with this call, behind the others or in the place of the one with its name."""

@@ -1,7 +1,7 @@
 """Expressions of fields, facts between two of them, and when two have the same members (points 7 and 8)."""
 
 from onemember.errors import InvalidForm, InvalidNames, InvalidSets, InvalidText
-from onemember.errors import NotAnExpression, TooManyFields, UnknownField
+from onemember.errors import NotAFact, NotAnExpression, TooManyFields, UnknownField
 from onemember.forms import GIVEN, NONE, check_depth, check_leaves, form_fields, form_leaves, form_meets
 from onemember.forms import form_size, form_text, form_value, is_field, read_counted
 from onemember.members import Members, check_members
@@ -192,6 +192,12 @@ def check_expression(value):
     """Refuse a value that is not an Expression."""
     if not isinstance(value, Expression):
         raise NotAnExpression(value)
+
+
+def check_fact(value):
+    """Refuse a value that is not a Fact."""
+    if not isinstance(value, Fact):
+        raise NotAFact(value)
 
 
 def with_sign(sign, one, other):

@@ -1,7 +1,8 @@
 """Histories of deeds: played, told as texts, compared, and all of them in their order (point 11)."""
 
+from onemember.deeds import behind_deed, first_state
 from onemember.designs import check_design
-from onemember.errors import InvalidArgument, InvalidHistory, InvalidNames, InvalidText
+from onemember.errors import InvalidArgument, InvalidHistory, InvalidNames, InvalidText, Refused, WrongMode
 from onemember.keepers import Keeper
 from onemember.kinds import is_integer, is_tuple_of
 from onemember.members import Members
@@ -17,8 +18,9 @@ def play(design, history):
     check_design(design)
     check_history(design, history)
     keeper = Keeper(design)
-    for call, argument in history:
-        keeper.do(call, for_keeper(argument))
+    deeds = [(call, for_keeper(argument)) for call, argument in history]
+    # All at once, as nobody asks for the changes of the views behind each deed.
+    keeper.do_all(*deeds)
     return keeper
 
 
@@ -26,14 +28,23 @@ def outcomes(design, history):
     """For each deed whether it is granted; refused ones change nothing."""
     check_design(design)
     check_history(design, history)
-    keeper = Keeper(design)
+    state = first_state(design)
     granted = []
-    for call, argument in history:
-        can = keeper.can(call, for_keeper(argument))
-        if can:
-            keeper.do(call, for_keeper(argument))
-        granted.append(can)
+    for deed in history:
+        later = behind_deeds(design, state, (deed,))
+        granted.append(later is not None)
+        state = state if later is None else later
     return tuple(granted)
+
+
+def behind_deeds(design, state, deeds):
+    """The state of a keeper behind deeds of a history, or None if one of them is refused."""
+    try:
+        for call, argument in deeds:
+            state = behind_deed(design, state, call, for_keeper(argument))
+    except (WrongMode, Refused):
+        return None
+    return state
 
 
 def for_keeper(argument):
@@ -46,8 +57,18 @@ def check_history(design, history):
     if not isinstance(history, tuple):
         raise InvalidHistory(None)
     for at, deed in enumerate(history):
-        if not is_tuple_of(deed, 2) or deed[0] not in design or not is_wanted(design.sort_of(deed[0]), deed[1]):
+        if not is_deed(design, deed):
             raise InvalidHistory(at)
+
+
+def is_history(design, value):
+    """Whether a value is a tuple of deeds of the design."""
+    return isinstance(value, tuple) and all([is_deed(design, deed) for deed in value])
+
+
+def is_deed(design, value):
+    """Whether a value is a deed of the design, as it stands in a history."""
+    return is_tuple_of(value, 2) and value[0] in design and is_wanted(design.sort_of(value[0]), value[1])
 
 
 def is_wanted(sort, value):
@@ -154,7 +175,8 @@ def histories(design, names, *, most):
                     yield (*way, row[0])
                     if deeds < most:
                         longer.append(((*way, row[0]), later))
-        level = longer
+        # A copy: the loop over the level does not go over the list that it makes longer.
+        level = list(longer)
 
 
 def check_ascending(names):

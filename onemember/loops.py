@@ -3,11 +3,15 @@
 from onemember.designs import check_design
 from onemember.errors import UnknownRule, WrongSort
 from onemember.shapes import MANY, ONE
-from onemember.steps import TOGETHER, all_moves, behind, deed_rows, reached
+from onemember.steps import TOGETHER, all_moves, behind, reached, rows_of
 
 WHOLE = "whole"
 STOP = "stop"
 RULES = ("skip", "whole", "stop")
+
+# The places of two names as a loop takes them, when the first one is the lesser one, and the other way round.
+FORWARDS = (0, 1)
+BACKWARDS = (1, 0)
 
 
 def same_loop(design, one, many, *, rule="stop"):
@@ -23,14 +27,11 @@ def loop_parting(design, one, many, *, rule="stop"):
     if rule not in RULES:
         raise UnknownRule(rule)
     moves = all_moves(design)
-    move_one = moves[design.names.index(one)]
-    rows = [row for row in deed_rows(design, TOGETHER) if row[0][0] == many]
+    rows = rows_of(design, many, TOGETHER)
     # Two members are enough: one that is done before the loop stops, and one at which it does.
     for state, way in reached(design, TOGETHER).items():
         for row in rows:
-            later = behind(moves, state, row)
-            due = (False, state) if later is None else (True, later)
-            if looped(move_one[state[0]], state, row[2], rule) != due:
+            if looped(moves, design.names.index(one), state, row, FORWARDS, rule) != called(moves, state, row):
                 return (way, row[0][1])
     return None
 
@@ -41,20 +42,28 @@ def check_sort(design, call, sort):
         raise WrongSort(call)
 
 
-def looped(move, state, given, rule):
-    """Whether a loop over the names that are given is granted, and the state behind it.
+def called(moves, state, row):
+    """Whether the deed of a row is granted, and the state behind it."""
+    later = behind(moves, state, row)
+    return (False, state) if later is None else (True, later)
 
-    The move is what the call does in the mode of the state, or None.
+
+def looped(moves, one, state, row, order, rule):
+    """Whether a loop over the names that a row gives is granted, and the state behind it.
+
+    It does the call at the place one, and takes the names in the order of these places.
     """
+    move = moves[one][state[0]]
+    given = row[2]
     insides = list(state[1:])
     granted = True
-    for at, one in enumerate(given):
+    for at in order:
         later = None if move is None else move[1][2 * insides[at] + 1]
-        if one and later is not None:
+        if given[at] and later is not None:
             insides[at] = later
-        elif one and rule == WHOLE:
+        elif given[at] and rule == WHOLE:
             return (False, state)
-        elif one and rule == STOP:
+        elif given[at] and rule == STOP:
             granted = False
             break
     return (granted, (state[0], *insides))

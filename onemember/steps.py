@@ -11,6 +11,9 @@ from onemember.shapes import MANY, ONE
 ALONE = ("x",)
 TOGETHER = ("x", "y")
 
+# For each sort: whether somebody for whom the facts of a deed are asked can be not given, and given.
+GIVENS = {"one": (1,), "many": (0, 1), "none": (0,)}
+
 
 def leaf_bits(fields):
     """For each leaf of a form a number whose bits are places: twice the number of the fields, and 1 if given."""
@@ -21,14 +24,36 @@ def leaf_bits(fields):
     return table
 
 
+def is_at(bits, place):
+    """Whether somebody at a place is in the form with these bits."""
+    return bool((bits >> place) & 1)
+
+
 def is_in(bits, inside):
     """Whether somebody in just the fields of a number, who is not given, is in the form with these bits."""
-    return bool((bits >> (2 * inside)) & 1)
+    return is_at(bits, 2 * inside)
+
+
+def fault_bits(fact, table):
+    """The bits of the places at which somebody breaks a fact, told by its two forms."""
+    left, right = fact
+    bits = form_value(left, table)
+    return bits ^ (bits & form_value(right, table))
 
 
 def fields_of(fields, inside):
     """The tuple of the fields of a number, in the order of the design."""
     return tuple([field for at, field in enumerate(fields) if (inside >> at) & 1])
+
+
+def number_of(fields, inside):
+    """The number of a tuple of fields."""
+    return sum([1 << fields.index(field) for field in inside])
+
+
+def places_of(sort, insides):
+    """The places of leaf_bits at which deeds of a sort can find somebody in the fields of one of these numbers."""
+    return [2 * inside + given for inside in insides for given in GIVENS[sort]]
 
 
 def all_moves(design):
@@ -46,16 +71,15 @@ def case_moves(design, case, table):
         return None
     _, facts, updates, after = case
     faults = 0
-    for left, right in facts:
-        bits = form_value(left, table)
-        faults = faults | (bits ^ (bits & form_value(right, table)))
+    for fact in facts:
+        faults = faults | fault_bits(fact, table)
     updated = dict(updates)
     # A field without an update is its own form.
     later = [form_value(updated.get(field, field), table) for field in design.fields]
     numbers = []
     for place in range(2 << len(later)):
         number = sum([((form >> place) & 1) << at for at, form in enumerate(later)])
-        numbers.append(None if (faults >> place) & 1 else number)
+        numbers.append(None if is_at(faults, place) else number)
     return (design.modes.index(after), numbers)
 
 
@@ -86,9 +110,19 @@ def deed_rows(design, names):
     return rows
 
 
+def rows_of(design, call, names):
+    """The rows of the deeds of a call with these names."""
+    return [row for row in deed_rows(design, names) if row[0][0] == call]
+
+
 def beginning(names):
     """The state at the beginning, with these names looked at."""
     return (0,) * (len(names) + 1)
+
+
+def every_state(design):
+    """All states with one name looked at, also those that nobody reaches."""
+    return [(place, inside) for place in range(len(design.modes)) for inside in range(1 << len(design.fields))]
 
 
 def behind(moves, state, row):
@@ -119,6 +153,16 @@ def first_ways(start, rows, step):
                 states.append(later)
         at += 1
     return ways
+
+
+def is_closed(states, rows, step):
+    """Whether there is in a dict, with each of its states, each state that the deeds of the rows lead to."""
+    for state in states:
+        for row in rows:
+            later = step(state, row)
+            if later is not None and later not in states:
+                return False
+    return True
 
 
 def reached(design, names):

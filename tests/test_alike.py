@@ -44,9 +44,9 @@ def changed(chance, design):
             return design.with_call(call)
 
 
-def plain_sign(first, second, names, differs):
+def plain_sign(first, second, names, differs, *, start=None):
     """The first triple of a plain search over pairs of keepers, or None. With many names, whether one shows it."""
-    found = [((), Plain(first), Plain(second))]
+    found = [((), *(start or (Plain(first), Plain(second))))]
     seen = {(found[0][1].key(), found[0][2].key())}
     for way, one, other in found:
         if one.mode != other.mode:

@@ -2,7 +2,7 @@
 
 import unittest
 
-EXAMPLES = '''
+EXAMPLES = r'''
 >>> from onemember.members import Members
 >>> ann, both = Members("ann"), Members("bob", "ann", "bob")
 >>> [both.names, str(both), len(both), "bob" in both, ann <= both, both < both, both - ann == Members("bob")]
@@ -161,6 +161,77 @@ raises Stopped(index=1)
 >>> design = sample_design()
 >>> [commute(design, "invite", "leave"), commute(design, "close", "begin"), disorder(design, "enter", "leave"), disorder(design, "invite", "enter")]
 [True, False, ((('invite', ('x',)),), 'x', 'x'), ((), ('x',), 'x')]
+
+>>> from onemember.designs import Design
+>>> from onemember.least import classes, fewest, told_apart
+>>> come = ("come", "one", (("m", (), (("seen", ("|", "seen", "given")), ("new", ("-", ("|", "new", "given"), "seen"))), "m"),))
+>>> rest = ("rest", "none", (("m", (), (("new", "none"),), "m"),))
+>>> design = Design(("seen", "new"), ("m",), (come, rest), (("fresh", ("new",)),))
+>>> [classes(design), fewest(design), told_apart(design, "m", ("seen",), ())]
+[((((),), (('seen',),), (('seen', 'new'),)),), 2, ((('come', 'x'),), 'view', 'fresh')]
+
+>>> from onemember.alike import alike
+>>> from onemember.designs import Design
+>>> from onemember.least import least_design
+>>> come = ("come", "one", (("m", (), (("a", ("|", "a", "given")), ("b", ("|", "b", "given"))), "m"),))
+>>> design = Design(("a", "b"), ("m",), (come,), (("here", (("&", "a", "b"),)),))
+>>> less = least_design(design)
+>>> [len(less.fields), alike(design, less), less.names, less.view_names]
+[1, True, ('come',), ('here',)]
+
+>>> from onemember.deciding import always
+>>> from onemember.expressions import Fact
+>>> from onemember.guards import doomed, weakest
+>>> from onemember.histories import outcomes, read_history
+>>> from onemember.samples import sample_design
+>>> design, fact = sample_design(), Fact.read("inside <= invited")
+>>> safe, strict = weakest(fact, design), weakest(fact, design, free=("close",))
+>>> [always(fact, safe), outcomes(safe, read_history("invite {x}; enter x; close; leave x; close")), outcomes(strict, read_history("invite {x}; enter x; close")), doomed(fact, design, free=("invite", "enter", "close"))]
+[True, (True, True, False, True, True), (True, False, True), (('invite', ('x',)), ('enter', 'x'), ('close', None))]
+
+>>> from onemember.designs import Design
+>>> from onemember.needless import derived, needless, pruned
+>>> come = ("come", "one", (("m", (("none", "given"),), (("a", ("|", "a", "given")), ("b", ("|", "a", "given"))), "m"), ("n", (), (), "n")))
+>>> design = Design(("a", "b"), ("m", "n"), (come,), ())
+>>> [needless(design), derived(design, "b").fields, pruned(design).calls]
+[(('fact', 'come', 'm', 0), ('case', 'come', 'n')), ('a',), (('come', 'one', (('m', (), (('a', ('|', 'a', 'given')), ('b', ('|', 'a', 'given'))), 'm'),)),)]
+
+>>> from onemember.deciding import nodes
+>>> from onemember.designs import Design
+>>> from onemember.joining import beside, merged
+>>> mark = ("mark", "one", (("m", (), (("a", ("|", "a", "given")),), "m"),))
+>>> twin = ("mark", "one", (("m", (("given", "none"),), (), "m"),))
+>>> first = Design(("a",), ("m",), (mark,), ())
+>>> both = beside(first, Design(("b",), ("m",), (twin,), (("seen", ("b",)),)))
+>>> [both.fields, both.calls, both.view_names, nodes(both)]
+[('a', 'b'), (('mark', 'one', (('m', (('given', 'none'),), (('a', ('|', 'a', 'given')),), 'm'),)),), ('seen',), (('m', ()),)]
+
+>>> from onemember.keepers import Keeper
+>>> from onemember.members import Members
+>>> from onemember.reports import node_report, size_report
+>>> from onemember.samples import sample_design
+>>> keeper = Keeper(sample_design())
+>>> keeper.do_all(("invite", Members("ann", "bob", "cid")), ("enter", "cid"))
+>>> [node_report(sample_design()).split("\n"), size_report(keeper).split("\n")]
+[['day    0 -', 'day    1 invited', 'day    2 invited inside', 'night  0 -', 'night  1 inside'], ['invited: 3 100.0 percent', ' inside: 1 33.3 percent']]
+
+>>> from onemember.certificates import certify_always
+>>> from onemember.checker import holds
+>>> from onemember.deciding import nodes
+>>> from onemember.expressions import Fact
+>>> from onemember.samples import sample_design
+>>> design, fact = sample_design(), Fact.read("inside <= invited")
+>>> claim, paper = certify_always(fact, design, mode="day")
+>>> less = tuple(list(nodes(design))[1:])
+>>> [claim[0], holds(claim, paper), holds(claim, nodes(design)), holds(claim, less), certify_always(fact, design)[0][0]]
+['always', True, True, False, 'not always']
+
+>>> from onemember.console import Console
+>>> from onemember.samples import sample_design
+>>> console = Console(sample_design())
+>>> lines = ("do invite {ann bob}; enter ann", "show awaited", "do leave ann; enter cid", "field inside", "always inside <= invited", "undo", "fewest")
+>>> [console.say(line) for line in lines]
+['day', 'bob', 'refused 1', 'ann', 'no invite {x}; enter x; close', 'day', '2']
 '''
 
 
@@ -172,7 +243,7 @@ class ExamplesTest(unittest.TestCase):
                 self.check(text)
 
     def test_all_examples_are_there(self):
-        self.assertEqual(len(EXAMPLES.strip().split("\n\n")), 22)
+        self.assertEqual(len(EXAMPLES.strip().split("\n\n")), 30)
 
     def check(self, text):
         """The last statement gives what the line behind it tells, or raises it."""

@@ -22,7 +22,7 @@ BARRED_WORDS = (
 METHODS = (
     "append clear copy count endswith extend find get index insert isalnum isalpha isdigit islower isspace isupper items join"
     " keys ljust lower lstrip partition pop remove replace reverse rfind rjust rpartition rsplit rstrip setdefault split"
-    " splitlines startswith strip update upper values zfill bit_length isascii add discard"
+    " splitlines startswith strip update upper values zfill bit_length isascii removeprefix add discard"
 ).split()
 AT_ONCE = ("zip", "enumerate", "reversed", "range")
 TAKERS = ("list", "tuple", "dict", "sorted", "sum", "any", "all", "enumerate", "zip", "min", "max", "set", "len", "reversed")
@@ -189,7 +189,7 @@ class LanguageTest(unittest.TestCase):
         # Members compare by what they hold, so only what is plainly sorted by Python itself may be sorted.
         for place, node in self.nodes(ast.Call):
             if ast.unparse(node.func) in ("sorted", "min", "max"):
-                self.assertRegex(ast.unparse(node.args[0]), r"^set\(", place)
+                self.assertRegex(ast.unparse(node.args[0]), r"^(set\(|\[len\([a-z]+\) for )", place)
                 self.assertEqual(node.keywords, [], place)
             self.assertNotEqual(getattr(node.func, "attr", ""), "sort", place)
 
@@ -256,10 +256,18 @@ class LanguageTest(unittest.TestCase):
     def test_defaults_and_module_level_values_are_plain(self):
         for place, node in self.nodes(ast.FunctionDef):
             for value in node.args.defaults + [value for value in node.args.kw_defaults if value is not None]:
-                self.assertIsInstance(value, ast.Constant, place)
+                self.assertIn(value.__class__, (ast.Constant, ast.Tuple), place)
+                ast.literal_eval(value)
         for name, tree in self.trees:
+            above = []
             for node in tree.body:
-                if isinstance(node, ast.Assign):
+                above.append(getattr(node, "name", None))
+                if isinstance(node, ast.Assign) and isinstance(getattr(node.value, "values", [None])[0], ast.Name):
+                    # A table of functions.
+                    for key, value in zip(node.value.keys, node.value.values):
+                        self.assertIsInstance(ast.literal_eval(key), str, name)
+                        self.assertIn(value.id, above, name)
+                elif isinstance(node, ast.Assign):
                     ast.literal_eval(node.value)
                 else:
                     self.assertIsInstance(node, (ast.ImportFrom, ast.FunctionDef, ast.ClassDef, ast.Expr), name)
