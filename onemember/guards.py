@@ -45,7 +45,8 @@ def lost_states(fact, design, free):
     lost = {}
     more = [state for state in states if state[1] in broken]
     while more:
-        lost.update({state: True for state in more})
+        for state in more:
+            lost[state] = True
         more = [state for state in states if state not in lost
                 and any([behind(moves, state, row) in lost for row in rows])]
     return lost

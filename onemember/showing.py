@@ -173,7 +173,8 @@ def shows_fields(design, parts, paper):
         return False
     deeds = [row[0] for row in deed_rows(design, ALONE)]
     states = [end_of(design, way) if are_among(way, deeds) else None for way in ways]
-    if any([state is None or state[0] != states[0][0] for state in states]):
+    modes = [None if state is None else state[0] for state in states]
+    if None in modes or any([mode != modes[0] for mode in modes]):
         return False
     pairs = [(states[first], states[second]) for second in range(len(states)) for first in range(second)]
     return all([tells_apart(design, deeds, pair, sign) for pair, sign in zip(pairs, signs)])

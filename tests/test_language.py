@@ -24,6 +24,7 @@ METHODS = (
     " keys ljust lower lstrip partition pop remove replace reverse rfind rjust rpartition rsplit rstrip setdefault split"
     " splitlines startswith strip update upper values zfill bit_length isascii removeprefix add discard"
 ).split()
+CHANGING = ("append", "extend", "pop", "insert", "remove", "clear", "update", "setdefault", "reverse")
 AT_ONCE = ("zip", "enumerate", "reversed", "range")
 TAKERS = ("list", "tuple", "dict", "sorted", "sum", "any", "all", "enumerate", "zip", "min", "max", "set", "len", "reversed")
 COMPREHENSIONS = (ast.ListComp, ast.SetComp, ast.DictComp)
@@ -57,6 +58,42 @@ def bound(node):
             found.append(inner.name)
         elif isinstance(inner, ast.FunctionDef) and inner is not node:
             found.append(inner.name)
+    return found
+
+
+def same_names(function):
+    """For each name of a function the names that one assignment or several make names of the same value."""
+    groups = {}
+    for node in ast.walk(function):
+        if isinstance(node, ast.Assign):
+            values = [node.value] if not isinstance(node.value, ast.IfExp) else [node.value.body, node.value.orelse]
+            for one in [value for value in values if isinstance(value, ast.Name)]:
+                for target in [target for target in node.targets if isinstance(target, ast.Name)]:
+                    joined = groups.get(one.id, {one.id}) | groups.get(target.id, {target.id})
+                    groups.update(dict.fromkeys(joined, joined))
+    return groups
+
+
+def walked(iterated, groups):
+    """The names of what a loop goes over, unless it is a copy."""
+    while isinstance(iterated, ast.Call) and iterated.args and ast.unparse(iterated.func) in ("enumerate", "zip", "reversed"):
+        iterated = iterated.args[0]
+    if isinstance(iterated, ast.Call) and isinstance(iterated.func, ast.Attribute):
+        iterated = iterated.func.value
+    name = ast.unparse(iterated)
+    return groups.get(name, {name})
+
+
+def changed_in(rows):
+    """The names of what rows change by a method, an item or a deletion."""
+    found = set()
+    for node in [inner for row in rows for inner in ast.walk(row)]:
+        if isinstance(node, ast.Call) and getattr(node.func, "attr", "") in CHANGING:
+            found.add(ast.unparse(node.func.value))
+        elif isinstance(node, ast.Subscript) and not isinstance(node.ctx, ast.Load):
+            found.add(ast.unparse(node.value))
+        elif isinstance(node, ast.AugAssign):
+            found.add(ast.unparse(node.target))
     return found
 
 
@@ -279,7 +316,7 @@ class LanguageTest(unittest.TestCase):
                     self.assertIsInstance(argument.value, (ast.Name, ast.Attribute), place)
 
     def test_what_a_loop_goes_over_is_not_changed_in_it(self):
-        changing = ("append", "extend", "pop", "insert", "remove", "clear", "update", "setdefault")
+        changing = CHANGING
         for place, node in self.nodes(ast.For):
             over = ast.unparse(node.iter)
             for inner in node.body:
@@ -289,3 +326,11 @@ class LanguageTest(unittest.TestCase):
         for place, node in self.nodes(*COMPREHENSIONS):
             for part in ast.walk(node):
                 self.assertNotIn(getattr(getattr(part, "func", None), "attr", ""), changing, place)
+
+    def test_what_a_loop_goes_over_is_not_changed_in_it_by_another_name(self):
+        for place, node in self.nodes(ast.FunctionDef):
+            for loop in ast.walk(node):
+                if isinstance(loop, ast.For):
+                    self.assertFalse(walked(loop.iter, same_names(node)) & changed_in(loop.body), place)
+        wrong = ast.parse("def f(level):\n for _ in level:\n  longer = []\n  for way in level:\n   longer.append(way)\n  level = longer").body[0]
+        self.assertTrue(walked(wrong.body[0].body[1].iter, same_names(wrong)) & changed_in(wrong.body[0].body[1].body))
