@@ -2,7 +2,6 @@
 
 from onemember.claims import read_fact
 from onemember.deciding import breaking
-from onemember.designs import check_design
 from onemember.errors import InvalidText
 from onemember.histories import for_keeper, history_text, is_history, read_history
 from onemember.keepers import Keeper
@@ -14,9 +13,8 @@ class Console:
     """A keeper of a design that answers lines."""
 
     def __init__(self, design):
-        check_design(design)
-        self._design = design
         self._keeper = Keeper(design)
+        self._design = design
 
     def say(self, line):
         """The answer to a line."""

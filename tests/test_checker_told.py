@@ -132,7 +132,8 @@ class ListsTest(CloseCase):
         self.refused_all(("comes", str(DESIGN.with_call(twin)), "a & b", "a"), PLACES + (("m", ("b",)),))
         wiped = (("add", "ann"), ("add", "bob"), ("mark", ("ann",)), ("wipe", None))
         self.accepted(("not stays", str(DESIGN), "b"), (wiped, "ann"))
-        self.refused_all(("not stays", str(DESIGN), "b"), (wiped, "bob"), (wiped[:3], "ann"), ((), "ann"), (wiped + (("wipe", None),), "ann"), wiped, (wiped[1:], "ann"))
+        self.refused_all(("not stays", str(DESIGN), "b"), (wiped, "bob"), (wiped[:3], "ann"), ((), "ann"), (wiped + (("wipe", None),), "ann"), wiped, (wiped[1:], "ann"),
+                         (wiped[:3] + (("add", "bob"),), "ann"), (wiped[:3] + (("mark", ("bob",)),), "ann"))
         self.accepted(("not comes", str(DESIGN), "b", "none"), (wiped[:3], "ann"))
         self.accepted(("not comes", str(DESIGN), "a", "b"), (wiped[:1], "ann"), (wiped[:2], "bob"))
         self.refused_all(("not comes", str(DESIGN), "a", "b"), (wiped[:2], "ann"), (wiped[:3], "ann"), ((), "ann"), (wiped[:2], "zoe"))
@@ -240,6 +241,14 @@ class TwoDesignsTest(CloseCase):
             self.same(holds(("not alike", TEXT, str(free)), (full, "deed", wrong)), False)
         self.same(holds(("not alike", TEXT, str(free)), (full, "deed", ("begin", None))), True)
 
+    def test_histories_that_one_of_them_refuses(self):
+        free = str(SAMPLE.with_call(("begin", "none", (("night", (), (("inside", "none"),), "day"),))))
+        way = read_history("invite {ann bob}; enter ann; close; begin")
+        for word in ("not alike", "not stands in"):
+            for first, second in ((TEXT, free), (free, TEXT)):
+                for paper in ((way, "mode", None), (way, "view", "guests"), (way, "deed", ("begin", None)), (way + (("close", None),), "deed", ("begin", None))):
+                    self.same(holds((word, first, second), paper), False)
+
     def test_designs_that_can_not_be_compared(self):
         for other in (SAMPLE.without("leave"), SAMPLE.with_call(("more", "none", ())), Design(SAMPLE.fields, SAMPLE.modes, SAMPLE.calls, ()), Design(SAMPLE.fields, ("day", "dusk"), (), ())):
             for word in ("alike", "stands in", "not alike", "not stands in"):
@@ -287,6 +296,18 @@ class CallsTest(CloseCase):
         self.same(holds(("not same loop", text, "add", "all", "skip"), (barred, ("bob",), None)), False)
         self.same(holds(("not same loop", text, "all", "add", "skip"), (barred, ("bob",))), False)
 
+    def test_deeds_that_are_passed_over(self):
+        calls = (
+            ("add", "one", (("m", (("given", ("-", "given", "off")),), (("on", ("|", "on", "given")),), "m"),)),
+            ("all", "many", (("m", (), (("on", ("|", "on", ("-", "given", "off"))),), "m"),)), ("bar", "one", (("m", (), (("off", ("|", "off", "given")),), "m"),)),
+        )
+        text = str(Design(("on", "off"), ("m",), calls, ()))
+        barred = read_history("bar bob")
+        for names in (("bob",), ("ann", "bob"), ("bob", "cid"), ("ann", "bob", "cid")):
+            self.same(holds(("not same loop", text, "add", "all", "skip"), (barred, names)), False)
+            self.same(holds(("not same loop", text, "add", "all", "stop"), (barred, names)), True)
+            self.same(holds(("not same loop", text, "add", "all", "whole"), (barred, names)), True)
+
     def test_both_orders_of_the_two(self):
         # One that is refused stops the loop, so that whether the other one is done depends on the order.
         calls = (("add", "one", (("m", (("given", "a"),), (("b", ("|", "b", "given")),), "m"),)), ("all", "many", ()))
@@ -323,6 +344,18 @@ class FieldsTest(CloseCase):
         for more in ((((), "view", "fresh"), True), (((("rest", None),), "view", "fresh"), False), (((("come", "x"),), "view", "fresh"), True),
                      (((), "view", "fresher"), False), (((), "mode", None), False), (([], "view", "fresh"), False), (((), "view"), False), (((("come", "y"),), "view", "fresh"), False)):
             self.same(holds(("fields", text, 2), (ways, more[:1] + signs[1:])), more[1])
+
+    def test_signs_for_x_alone(self):
+        calls = (("put", "many", (("m", (), (("a", ("|", "a", "given")),), "m"),)), ("ask", "many", (("m", ((("&", "a", "given"), "none"),), (), "m"),)))
+        text = str(Design(("a",), ("m",), calls, ()))
+        ways = ((), read_history("put {x}"))
+        for way in ((), read_history("ask {}"), read_history("put {}; ask {}")):
+            self.same(holds(("fields", text, 1), (ways, ((way, "deed", ("ask", ("x",))),))), True)
+            for wrong in (("ask", ("x", "y")), ("ask", ("y",)), ("ask", ()), ("ask", "x"), ("put", ("x",)), None):
+                self.same(holds(("fields", text, 1), (ways, ((way, "deed", wrong),))), False)
+        for way in (read_history("put {y}"), read_history("ask {y}"), [], None):
+            self.same(holds(("fields", text, 1), (ways, ((way, "deed", ("ask", ("x",))),))), False)
+        self.same(holds(("fields", text, 1), ((ways[0], read_history("put {x y}")), (((), "deed", ("ask", ("x",))),))), False)
 
     def test_signs_with_longer_ways_and_deeds(self):
         text = str(SAMPLE)

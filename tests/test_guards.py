@@ -124,6 +124,14 @@ class SampleTest(GuardsCase):
                 self.assertEqual(weakest(FACT, SAMPLE, free=free), weakest(FACT, SAMPLE, free=free[::-1]))
                 self.assertEqual(doomed(FACT, SAMPLE, free=free), doomed(FACT, SAMPLE, free=free[::-1]))
 
+    def test_only_what_leads_astray_is_refused_more_often(self):
+        safe = weakest(FACT, SAMPLE)
+        self.assertEqual([name for name in SAMPLE.names if safe.case_of(name, "day") != SAMPLE.case_of(name, "day")], ["close"])
+        self.assertEqual([name for name in SAMPLE.names if safe.case_of(name, "night") != SAMPLE.case_of(name, "night")], [])
+        strict = weakest(FACT, SAMPLE, free=("close",))
+        self.assertEqual([name for name in SAMPLE.names if strict.case_of(name, "day") != SAMPLE.case_of(name, "day")], ["enter"])
+        self.assertEqual(strict.case_of("enter", "day")[1][:1], SAMPLE.case_of("enter", "day")[1])
+
     def test_a_fact_that_holds_anyway(self):
         self.assertIs(alike(weakest(Fact.read("invited - inside <= invited"), SAMPLE), SAMPLE), True)
         self.assertIs(doomed(Fact.read("none <= none"), SAMPLE, free=SAMPLE.names), None)
