@@ -17,11 +17,11 @@ def weakest(fact, design, *, free=()):
     lost = lost_states(fact, design, free)
     if beginning(ALONE) in lost:
         return None
-    calls = []
+    stricter = []
     for call, moves in zip(design.calls, all_moves(design)):
         name, sort, cases = call
-        calls.append(call if name in free else (name, sort, guarded_cases(design, sort, cases, moves, lost)))
-    return Design(design.fields, design.modes, tuple(calls), design.views)
+        stricter.append(call if name in free else (name, sort, guarded_cases(design, sort, cases, moves, lost)))
+    return Design(design.fields, design.modes, tuple(stricter), design.views)
 
 
 def doomed(fact, design, *, free=()):

@@ -30,20 +30,19 @@ def can_be_beside(first, second):
 
 def calls_beside(first, second):
     """The calls of two designs side by side."""
-    mode = second.modes[0]
-    calls = []
+    joint = []
     for name, sort, cases in first.calls:
         if name in second:
-            other = second.case_of(name, mode)
+            other = second.case_of(name, second.modes[0])
             cases_of_both = [] if other is None else [case_beside(case, other) for case in cases]
-            calls.append((name, sort, tuple(cases_of_both)))
+            joint.append((name, sort, tuple(cases_of_both)))
         else:
-            calls.append((name, sort, cases))
+            joint.append((name, sort, cases))
     for name, sort, cases in second.calls:
         if name not in first:
-            everywhere = [(at, facts, updates, at) for at in first.modes for _, facts, updates, _ in cases]
-            calls.append((name, sort, tuple(everywhere)))
-    return tuple(calls)
+            everywhere = [(mode, facts, updates, mode) for mode in first.modes for _, facts, updates, _ in cases]
+            joint.append((name, sort, tuple(everywhere)))
+    return tuple(joint)
 
 
 def case_beside(case, other):

@@ -72,14 +72,21 @@ def read_past_list(design, bits, paper):
         return None
     states = {}
     for row in paper:
-        flagged = is_tuple_of(row, 3) and isinstance(row[2], bool)
-        state = read_state(row[:2], design.modes, (design.fields,)) if flagged else None
-        if state is None or (*state, row[2]) in states:
+        state = read_past_state(row, design)
+        if state is None or state in states:
             return None
-        states[(*state, row[2])] = True
+        states[state] = True
     moves = all_moves(design)
     closed = is_closed(states, deed_rows(design, ALONE), lambda state, row: past_behind(moves, bits, state, row))
     return states if PAST_AT_FIRST in states and closed else None
+
+
+def read_past_state(row, design):
+    """The state (mode, inside, flag) of a row, or None."""
+    if not is_tuple_of(row, 3) or not isinstance(row[2], bool):
+        return None
+    state = read_state(row[:2], design.modes, (design.fields,))
+    return None if state is None else (*state, row[2])
 
 
 def past_list(design, bits):

@@ -44,11 +44,14 @@ def shows_not_always(design, parts, paper):
 def shows_not_apart(design, parts, paper):
     """Whether two members are in the two expressions behind a history."""
     one, other, modes = parts
-    if not is_tuple_of(paper, 3) or paper[1] == paper[2]:
+    if not is_tuple_of(paper, 3):
         return False
     way, name, other_name = paper
     state = end_of(design, way)
-    return is_meant(design, state, modes) and name in one.of(state[1]) and other_name in other.of(state[1])
+    if not is_meant(design, state, modes):
+        return False
+    # Compared last, when both are names for sure: other values could be too large to be compared.
+    return name in one.of(state[1]) and other_name in other.of(state[1]) and name != other_name
 
 
 def shows_not_bounded(design, parts, paper):

@@ -3,10 +3,8 @@
 import random
 
 from onemember.checker import holds
-from onemember.designs import Design
-from onemember.histories import read_history
 from onemember.samples import sample_design
-from tests.helper import CloseCase, own_objects, plain_values, strange_values
+from tests.helper import CloseCase, nested, own_objects, plain_values
 from tests.plain import great_design
 from tests.plain_checker import CLAIMS, plain_holds
 from tests.plain_truth import is_true
@@ -78,6 +76,17 @@ class AnyClaimsTest(CloseCase):
                 changed = claim[:at] + (value,) + claim[at + 1:]
                 self.same(holds(changed, paper), plain_holds(changed, paper))
             self.same(holds(value, value), False)
+
+    def test_values_that_hold_the_same_ones_again_and_again(self):
+        chance = random.Random(176)
+        for claim, paper in certified(chance, sample_design()):
+            for wrap in (lambda one: (one, one), lambda one: ("|", one, one), lambda one: [one, one], lambda one: {"a": one, "b": one}):
+                # As large as can be passed, and never the same one twice, so that comparing any two would not end.
+                one, other = nested(28, wrap, "x"), nested(28, wrap, "x")
+                for at in range(len(claim)):
+                    self.same(holds(claim[:at] + (one,) + claim[at + 1:], paper), False)
+                for wrong in (one, (one, other), (paper, one, other), paper[:1] + (one, other), paper[:-1] + (one,)):
+                    self.same(holds(claim, wrong), False)
 
     def test_the_greatest_designs(self):
         chance = random.Random(175)

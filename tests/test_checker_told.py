@@ -75,14 +75,18 @@ class ListsTest(CloseCase):
         self.accepted(claim, NODES)
         for wrong in ("inside  <= invited", "(inside) <= invited", "inside <= invited ", "inside <= given", "given <= invited", "inside <= zed", "inside",
                       "inside <= invited <= invited", "", FACT.encode(), None, 5, ("inside", "invited"), "inside < = invited", "none - given <= invited",
-                      f"{text_of(balanced(201)).replace('a', 'inside')} <= invited", f"{text_of(chain(21)).replace('a', 'none').replace('b', 'none')} <= invited",
-                      chain_text(1000).replace("a", "none").replace("b", "none") + " <= none", "none <= " + chain_text(1000), "(" * 3000, "none <= " + "(" * 4000):
+                      f"{text_of(balanced(201)).replace('a', 'inside')} <= invited",
+                      f"{text_of(chain(21)).replace('a', 'none').replace('b', 'none')} <= invited",
+                      chain_text(1000).replace("a", "none").replace("b", "none") + " <= none", "none <= " + chain_text(1000), "(" * 3000,
+                      "none <= " + "(" * 4000):
             self.refused_all(("always", TEXT, wrong, "day"), NODES)
             self.refused_all(("not always", TEXT, wrong, None), OUT)
         for right in (f"none <= {text_of(balanced(200)).replace('a', 'none')}", f"none <= {text_of(chain(20)).replace('a', 'none').replace('b', 'inside')}"):
             self.accepted(("always", TEXT, right, None), NODES)
-        for wrong in (TEXT + "\n", TEXT.replace("\n", "  \n", 1), "\n" + TEXT, "", TEXT.encode(), SAMPLE, None, TEXT.replace("inside", "within", 1), str(DESIGN), TEXT.upper(),
-                      TEXT + "\nview deep\nshow " + chain_text(1000) + "\nshow none", TEXT.replace("show none", "show " + text_of(chain(21))), TEXT.replace("case night day", "case night dawn")):
+        for wrong in (TEXT + "\n", TEXT.replace("\n", "  \n", 1), "\n" + TEXT, "", TEXT.encode(), SAMPLE, None, TEXT.replace("inside", "within", 1),
+                str(DESIGN), TEXT.upper(),
+                      TEXT + "\nview deep\nshow " + chain_text(1000) + "\nshow none", TEXT.replace("show none", "show " + text_of(chain(21))),
+                      TEXT.replace("case night day", "case night dawn")):
             self.refused_all(("always", wrong, FACT, "day"), NODES)
             self.refused_all(("not always", wrong, FACT, None), OUT)
             self.refused_all(("alike", TEXT, wrong), tuple((mode, inside, inside) for mode, inside in NODES))
@@ -92,14 +96,16 @@ class ListsTest(CloseCase):
         self.accepted(("bounded", TEXT, (("inside", -10 ** 39), ("none", 10 ** 39)), None), NODES)
         self.accepted(("bounded", TEXT, (("inside", 0),) * 4, None), NODES)
         self.refused_all(("bounded", TEXT, (("inside", 1), ("invited", -1)), None), NODES)
-        for wrong in ((), (("inside", 0),) * 5, (("inside", False),), (("inside", None),), (["inside", 0],), [("inside", 0)], (("inside", 0, 0),), (("zed", 0),),
+        for wrong in ((), (("inside", 0),) * 5, (("inside", False),), (("inside", None),), (["inside", 0],), [("inside", 0)], (("inside", 0, 0),),
+                (("zed", 0),),
                       (("given", 0),), ((0, "inside"),), ("inside", 0), (("inside", "0"),), None, (("(inside)", 0),), ((("inside",), 0),)):
             self.refused_all(("bounded", TEXT, wrong, None), NODES)
             self.refused_all(("not bounded", TEXT, wrong, None), (OUT, "ann"))
         self.accepted(("not bounded", TEXT, (("inside", 1), ("invited", -1)), None), (OUT, "ann"))
         self.accepted(("not bounded", TEXT, (("inside", 2), ("invited", -1)), "day"), (OUT[:2], "ann"))
         self.refused_all(("not bounded", TEXT, (("inside", 1), ("invited", -1)), "day"), (OUT, "ann"), (OUT[:2], "ann"))
-        self.refused_all(("not bounded", TEXT, (("inside", 1), ("invited", -1)), None), (OUT, "bob"), (OUT, "zoe"), (OUT, "x"), (OUT, None), (OUT,), OUT, [OUT, "ann"], (OUT, ("ann",)))
+        self.refused_all(("not bounded", TEXT, (("inside", 1), ("invited", -1)), None), (OUT, "bob"), (OUT, "zoe"), (OUT, "x"), (OUT, None), (OUT,),
+                OUT, [OUT, "ann"], (OUT, ("ann",)))
 
     def test_flags(self):
         flagged = (("m", (), False), ("m", ("a",), True), ("m", ("a", "b"), True), ("n", (), False), ("n", ("a",), True))
@@ -110,8 +116,10 @@ class ListsTest(CloseCase):
         self.refused_all(claim, flagged + (("m", (), True),), PLACES, flagged + (("m", ("a", "b"), False),))
         for at, (mode, inside, flag) in enumerate(flagged):
             less = flagged[:at] + flagged[at + 1:]
-            self.refused_all(claim, less, flagged + ((mode, inside, flag),), less + ((mode, inside, int(flag)),), less + ((mode, inside, not flag),), less + ((mode, inside),))
-            self.refused_all(claim, flagged + ((mode, inside, int(flag)),), less + ((mode, inside, str(flag)),), less + ((mode, inside, None),), less + ([mode, inside, flag],))
+            self.refused_all(claim, less, flagged + ((mode, inside, flag),), less + ((mode, inside, int(flag)),), less + ((mode, inside, not flag),),
+                    less + ((mode, inside),))
+            self.refused_all(claim, flagged + ((mode, inside, int(flag)),), less + ((mode, inside, str(flag)),), less + ((mode, inside, None),),
+                    less + ([mode, inside, flag],))
         self.refused_all(("been", str(DESIGN), "a", "b"), flagged)
         self.accepted(("not been", str(DESIGN), "a", "b"), ((("add", "zoe"),), "zoe"), ((("add", "zoe"), ("mark", ())), "zoe"))
         self.refused_all(("not been", str(DESIGN), "a", "b"), ((("add", "zoe"), ("mark", ("zoe",))), "zoe"), ((("add", "zoe"),), "ann"), ((), "zoe"))
@@ -132,7 +140,8 @@ class ListsTest(CloseCase):
         self.refused_all(("comes", str(DESIGN.with_call(twin)), "a & b", "a"), PLACES + (("m", ("b",)),))
         wiped = (("add", "ann"), ("add", "bob"), ("mark", ("ann",)), ("wipe", None))
         self.accepted(("not stays", str(DESIGN), "b"), (wiped, "ann"))
-        self.refused_all(("not stays", str(DESIGN), "b"), (wiped, "bob"), (wiped[:3], "ann"), ((), "ann"), (wiped + (("wipe", None),), "ann"), wiped, (wiped[1:], "ann"),
+        self.refused_all(("not stays", str(DESIGN), "b"), (wiped, "bob"), (wiped[:3], "ann"), ((), "ann"), (wiped + (("wipe", None),), "ann"), wiped,
+                (wiped[1:], "ann"),
                          (wiped[:3] + (("add", "bob"),), "ann"), (wiped[:3] + (("mark", ("bob",)),), "ann"))
         self.accepted(("not comes", str(DESIGN), "b", "none"), (wiped[:3], "ann"))
         self.accepted(("not comes", str(DESIGN), "a", "b"), (wiped[:1], "ann"), (wiped[:2], "bob"))
@@ -157,7 +166,8 @@ class ListsTest(CloseCase):
         way = read_history("invite {ann bob}; enter ann")
         claim = ("not apart", TEXT, "inside", "invited - inside", "day")
         self.accepted(claim, (way, "ann", "bob"))
-        self.refused_all(claim, (way, "bob", "ann"), (way, "ann", "ann"), (way, "ann", "zoe"), (way[:1], "ann", "bob"), (way, "ann"), [way, "ann", "bob"], (list(way), "ann", "bob"), (way, "ann", None))
+        self.refused_all(claim, (way, "bob", "ann"), (way, "ann", "ann"), (way, "ann", "zoe"), (way[:1], "ann", "bob"), (way, "ann"), [way, "ann",
+                "bob"], (list(way), "ann", "bob"), (way, "ann", None))
         self.refused_all(("not apart", TEXT, "inside", "inside", None), (way, "ann", "ann"))
         self.refused_all(("not apart", TEXT, "inside", "invited - inside", "night"), (way, "ann", "bob"))
         self.accepted(("not apart", TEXT, "inside", "invited - inside", None), (way, "ann", "bob"))
@@ -165,8 +175,10 @@ class ListsTest(CloseCase):
     def test_not_always(self):
         claim = ("not always", TEXT, FACT, None)
         self.accepted(claim, OUT, OUT + (("leave", "bob"),), read_history("invite {x}; enter x; close"))
-        self.refused_all(claim, OUT[:2], list(OUT), OUT[1:], OUT + (("leave", "ann"),), OUT + (("enter", "bob"),), (), None, "invite {x}; enter x; close", OUT + (None,))
-        for wrong in (("invite", ("bob", "ann")), ("invite", ["ann", "bob"]), ("invite", "ann"), ("invite", ("ann", "ann")), ["invite", ("ann", "bob")], ("invite", ("ann", "bob"), None), ("invited", ("ann",)), ("invite",)):
+        self.refused_all(claim, OUT[:2], list(OUT), OUT[1:], OUT + (("leave", "ann"),), OUT + (("enter", "bob"),), (), None,
+                "invite {x}; enter x; close", OUT + (None,))
+        for wrong in (("invite", ("bob", "ann")), ("invite", ["ann", "bob"]), ("invite", "ann"), ("invite", ("ann", "ann")), ["invite", ("ann",
+                "bob")], ("invite", ("ann", "bob"), None), ("invited", ("ann",)), ("invite",)):
             self.refused_all(claim, (wrong,) + OUT[1:])
         for wrong in (("close", ()), ("close",), ("close", "x"), ("Close", None), (None, None), 5):
             self.refused_all(claim, OUT[:2] + (wrong,))
@@ -203,7 +215,8 @@ class TwoDesignsTest(CloseCase):
             self.same(holds((word, TEXT, swapped), turned), True)
             self.same(holds((word, TEXT, swapped), twice), False)
             for at in range(len(twice)):
-                for paper in (twice[:at] + twice[at + 1:], twice + (twice[at],), twice[:at] + (twice[at][:2],) + twice[at + 1:], twice + (("day", ("inside",), ()),)):
+                for paper in (twice[:at] + twice[at + 1:], twice + (twice[at],), twice[:at] + (twice[at][:2],) + twice[at + 1:], twice + (("day",
+                        ("inside",), ()),)):
                     self.same(holds((word, TEXT, TEXT), paper), False)
             self.same(holds((word, TEXT, str(kept)), twice), False)
         self.same(holds(("stands in", str(free), TEXT), twice), True)
@@ -218,7 +231,8 @@ class TwoDesignsTest(CloseCase):
             self.same(holds((word, str(first), str(first)), (("m", (), ()), ("n", (), ()))), True)
             self.same(holds(("not " + word, str(first), str(second)), ((("go", None),), "mode", None)), True)
             self.same(holds(("not " + word, str(first), str(second)), ((("go", None), ("go", None)), "mode", None)), True)
-            for wrong in (((), "mode", None), ((("go", None),), "mode", "m"), ((("go", None),), "Mode", None), ((("go", None),), "mode"), ((("go", None),), "mode", ())):
+            for wrong in (((), "mode", None), ((("go", None),), "mode", "m"), ((("go", None),), "Mode", None), ((("go", None),), "mode"), ((("go",
+                    None),), "mode", ())):
                 self.same(holds(("not " + word, str(first), str(second)), wrong), False)
 
     def test_signs(self):
@@ -228,7 +242,8 @@ class TwoDesignsTest(CloseCase):
         for word in ("not alike", "not stands in"):
             self.same(holds((word, TEXT, str(kept)), (way, "view", "awaited")), True)
             self.same(holds((word, TEXT, str(kept)), (way, "deed", ("enter", "zoe"))), False)
-            for wrong in ((way, "view", "guests"), (way[:-1], "view", "awaited"), (way, "view", "zed"), (way, "view", None), (list(way), "view", "awaited"), (way, "views", "awaited"),
+            for wrong in ((way, "view", "guests"), (way[:-1], "view", "awaited"), (way, "view", "zed"), (way, "view", None), (list(way), "view",
+                    "awaited"), (way, "views", "awaited"),
                           (way, ("view",), "awaited"), (way, "view", "awaited", None), (way, "mode", None), (way + (("begin", None),), "view", "awaited")):
                 self.same(holds((word, TEXT, str(kept)), wrong), False)
         # In the second one bob is still invited, so only there he enters.
@@ -246,14 +261,17 @@ class TwoDesignsTest(CloseCase):
         way = read_history("invite {ann bob}; enter ann; close; begin")
         for word in ("not alike", "not stands in"):
             for first, second in ((TEXT, free), (free, TEXT)):
-                for paper in ((way, "mode", None), (way, "view", "guests"), (way, "deed", ("begin", None)), (way + (("close", None),), "deed", ("begin", None))):
+                for paper in ((way, "mode", None), (way, "view", "guests"), (way, "deed", ("begin", None)), (way + (("close", None),), "deed",
+                        ("begin", None))):
                     self.same(holds((word, first, second), paper), False)
 
     def test_designs_that_can_not_be_compared(self):
-        for other in (SAMPLE.without("leave"), SAMPLE.with_call(("more", "none", ())), Design(SAMPLE.fields, SAMPLE.modes, SAMPLE.calls, ()), Design(SAMPLE.fields, ("day", "dusk"), (), ())):
+        for other in (SAMPLE.without("leave"), SAMPLE.with_call(("more", "none", ())), Design(SAMPLE.fields, SAMPLE.modes, SAMPLE.calls, ()),
+                Design(SAMPLE.fields, ("day", "dusk"), (), ())):
             for word in ("alike", "stands in", "not alike", "not stands in"):
                 for first, second in ((TEXT, str(other)), (str(other), TEXT)):
-                    for paper in (((), "deed", ("leave", "x")), ((), "mode", None), ((), "view", "guests"), tuple((mode, inside, inside) for mode, inside in NODES)):
+                    for paper in (((), "deed", ("leave", "x")), ((), "mode", None), ((), "view", "guests"), tuple((mode, inside, inside) for mode,
+                            inside in NODES)):
                         self.same(holds((word, first, second), paper), False)
 
 
@@ -267,7 +285,8 @@ class CallsTest(CloseCase):
         self.same(holds(("commute", TEXT, "invite", "leave"), NODES[1:]), False)
         invited = read_history("invite {ann bob}")
         self.same(holds(("not commute", TEXT, "enter", "leave"), (invited, "ann", "ann")), True)
-        for wrong in ((invited, "ann", "bob"), (invited, "zoe", "zoe"), ((), "ann", "ann"), (invited, "ann", ("ann",)), (invited, "ann"), (invited, None, None), (list(invited), "ann", "ann")):
+        for wrong in ((invited, "ann", "bob"), (invited, "zoe", "zoe"), ((), "ann", "ann"), (invited, "ann", ("ann",)), (invited, "ann"), (invited,
+                None, None), (list(invited), "ann", "ann")):
             self.same(holds(("not commute", TEXT, "enter", "leave"), wrong), False)
         self.same(holds(("not commute", TEXT, "invite", "enter"), ((), ("ann", "zoe"), "zoe")), True)
         for wrong in (((), ("zoe", "ann"), "zoe"), ((), ["ann", "zoe"], "zoe"), ((), ("ann",), "zoe"), ((), "zoe", "zoe"), ((), ("zoe", "zoe"), "zoe")):
@@ -277,7 +296,8 @@ class CallsTest(CloseCase):
 
     def test_loops(self):
         facts, updates = ((("&", "given", "off"), "none"),), (("on", ("|", "on", "given")),)
-        calls = (("add", "one", (("m", facts, updates, "m"),)), ("all", "many", (("m", facts, updates, "m"),)), ("bar", "one", (("m", (), (("off", ("|", "off", "given")),), "m"),)))
+        calls = (("add", "one", (("m", facts, updates, "m"),)), ("all", "many", (("m", facts, updates, "m"),)), ("bar", "one", (("m", (), (("off",
+                ("|", "off", "given")),), "m"),)))
         text = str(Design(("on", "off"), ("m",), calls, ()))
         insides = ((), ("on",), ("off",), ("on", "off"))
         two = tuple(("m", one, other) for one in insides for other in insides)
@@ -291,7 +311,8 @@ class CallsTest(CloseCase):
         barred = read_history("bar bob")
         for rule, names in (("skip", ("bob",)), ("skip", ("ann", "bob")), ("stop", ("ann", "bob")), ("stop", ("ann", "bob", "cid"))):
             self.same(holds(("not same loop", text, "add", "all", rule), (barred, names)), True)
-        for rule, names in (("stop", ("bob",)), ("stop", ("bob", "cid")), ("whole", ("ann", "bob")), ("skip", ("ann",)), ("skip", ()), ("skip", ("bob", "ann")), ("skip", ["bob"]), ("skip", "bob"), ("skip", (None,))):
+        for rule, names in (("stop", ("bob",)), ("stop", ("bob", "cid")), ("whole", ("ann", "bob")), ("skip", ("ann",)), ("skip", ()), ("skip",
+                ("bob", "ann")), ("skip", ["bob"]), ("skip", "bob"), ("skip", (None,))):
             self.same(holds(("not same loop", text, "add", "all", rule), (barred, names)), False)
         self.same(holds(("not same loop", text, "add", "all", "skip"), (barred, ("bob",), None)), False)
         self.same(holds(("not same loop", text, "all", "add", "skip"), (barred, ("bob",))), False)
@@ -299,7 +320,8 @@ class CallsTest(CloseCase):
     def test_deeds_that_are_passed_over(self):
         calls = (
             ("add", "one", (("m", (("given", ("-", "given", "off")),), (("on", ("|", "on", "given")),), "m"),)),
-            ("all", "many", (("m", (), (("on", ("|", "on", ("-", "given", "off"))),), "m"),)), ("bar", "one", (("m", (), (("off", ("|", "off", "given")),), "m"),)),
+            ("all", "many", (("m", (), (("on", ("|", "on", ("-", "given", "off"))),), "m"),)), ("bar", "one", (("m", (), (("off", ("|", "off",
+            "given")),), "m"),)),
         )
         text = str(Design(("on", "off"), ("m",), calls, ()))
         barred = read_history("bar bob")
@@ -313,7 +335,8 @@ class CallsTest(CloseCase):
         calls = (("add", "one", (("m", (("given", "a"),), (("b", ("|", "b", "given")),), "m"),)), ("all", "many", ()))
         text = str(Design(("a", "b"), ("m",), calls, ()))
         self.same(holds(("same loop", text, "add", "all", "whole"), (("m", (), ()),)), False)
-        self.same(holds(("same loop", str(Design(("a",), ("m",), (("add", "one", ()), ("all", "many", (("m", (("given", "none"),), (), "m"),))), ())), "add", "all", "stop"), (("m", (), ()),)), True)
+        self.same(holds(("same loop", str(Design(("a",), ("m",), (("add", "one", ()), ("all", "many", (("m", (("given", "none"),), (), "m"),))), ())),
+                "add", "all", "stop"), (("m", (), ()),)), True)
         refusing = (("add", "one", (("m", (("given", "a"),), (("b", ("|", "b", "given")),), "m"),)), ("all", "many", (("m", (("given", "none"),), (), "m"),)))
         text = str(Design(("a", "b"), ("m",), refusing, ()))
         claim = ("same loop", text, "add", "all", "stop")
@@ -338,11 +361,14 @@ class FieldsTest(CloseCase):
         self.same(holds(("fields", text, 1), ((), ())), False)
         for wrong in (0, 3, 4, 5, -1, True, None, "2", 10 ** 39):
             self.same(holds(("fields", text, wrong), (ways, signs)), False)
-        for wrong in ((ways[:2], signs[:1]), (ways, signs[:2]), (ways, signs + signs[:1]), (ways[1:] + ways[:1], signs), (list(ways), signs), (ways, list(signs)),
-                      [ways, signs], (ways, signs, None), ways, (ways[:2] + ways[:1], signs), (ways + ways[:1], signs), ((ways[0], read_history("come y"), ways[2]), signs)):
+        for wrong in ((ways[:2], signs[:1]), (ways, signs[:2]), (ways, signs + signs[:1]), (ways[1:] + ways[:1], signs), (list(ways), signs), (ways,
+                list(signs)),
+                      [ways, signs], (ways, signs, None), ways, (ways[:2] + ways[:1], signs), (ways + ways[:1], signs), ((ways[0],
+                      read_history("come y"), ways[2]), signs)):
             self.same(holds(("fields", text, 2), wrong), False)
         for more in ((((), "view", "fresh"), True), (((("rest", None),), "view", "fresh"), False), (((("come", "x"),), "view", "fresh"), True),
-                     (((), "view", "fresher"), False), (((), "mode", None), False), (([], "view", "fresh"), False), (((), "view"), False), (((("come", "y"),), "view", "fresh"), False)):
+                     (((), "view", "fresher"), False), (((), "mode", None), False), (([], "view", "fresh"), False), (((), "view"), False), (((("come",
+                     "y"),), "view", "fresh"), False)):
             self.same(holds(("fields", text, 2), (ways, more[:1] + signs[1:])), more[1])
 
     def test_signs_for_x_alone(self):

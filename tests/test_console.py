@@ -58,7 +58,8 @@ class AnswersTest(CloseCase):
         self.same(console.say("do begin"), "refused 0")
         console.say("do invite {ann}")
         before = seen(console)
-        for line, due in (("do close; leave ann; begin; enter ann", "refused 3"), ("do enter ann; close; begin", "refused 2"), ("do leave zoe; leave ann; enter zoe", "refused 2"), ("do enter zoe", "refused 0")):
+        for line, due in (("do close; leave ann; begin; enter ann", "refused 3"), ("do enter ann; close; begin", "refused 2"),
+                ("do leave zoe; leave ann; enter zoe", "refused 2"), ("do enter zoe", "refused 0")):
             self.same(console.say(line), due)
             self.assertEqual(seen(console), before)
         self.same([console.say("undo"), console.say("undo")], ["day", "nothing"])
@@ -68,7 +69,8 @@ class AnswersTest(CloseCase):
     def test_always(self):
         console = Console(SAMPLE)
         console.say("do invite {ann}; enter ann; close")
-        for line, due in (("always none <= none", "yes"), ("always inside & invited <= inside", "yes"), ("always invited <= inside", "no invite {x}"), ("always inside <= none", "no invite {x}; enter x")):
+        for line, due in (("always none <= none", "yes"), ("always inside & invited <= inside", "yes"), ("always invited <= inside", "no invite {x}"),
+                ("always inside <= none", "no invite {x}; enter x")):
             self.same(console.say(line), due)
         self.same(console.say(f"always none <= {text_of(balanced(200)).replace('a', 'inside')}"), "yes")
         self.same(console.say(f"always none <= {text_of(chain(20)).replace('a', 'inside').replace('b', 'none')}"), "yes")
@@ -80,7 +82,8 @@ class AnswersTest(CloseCase):
 
     def test_without_calls_or_views(self):
         console = Console(BARE)
-        self.same([console.say(line) for line in ("fewest", "undo", "nodes", "field d", "always a <= none", "mode")], ["1", "nothing", "m  0 -", "-", "yes", "m"])
+        self.same([console.say(line) for line in ("fewest", "undo", "nodes", "field d", "always a <= none", "mode")], ["1", "nothing", "m  0 -", "-",
+                "yes", "m"])
 
     def test_any_lines_beside_a_plain_keeper(self):
         chance = random.Random(210)
@@ -140,19 +143,27 @@ class NoLinesTest(CloseCase):
         for wrong in strange_values() + ["", " "]:
             self.refuse(console, wrong)
         for word in ("design", "nodes", "sizes", "mode", "fewest", "undo"):
-            for line in (word + " ", " " + word, word.upper(), word + " x", word + "\n", word[:-1], word + " " + word, f"do {word}", f"show {word}", f"field {word}", f"always {word}"):
+            for line in (word + " ", " " + word, word.upper(), word + " x", word + "\n", word[:-1], word + " " + word, f"do {word}", f"show {word}",
+                    f"field {word}", f"always {word}"):
                 self.refuse(console, line)
-        for line in ("do", "do ", "do  close", "do close ", " do close", "do close;", "do close;begin", "do close;  begin", "do close ; begin", "do closed", "do enter", "do enter {ann}",
-                     "do invite ann", "do invite {bob ann}", "do invite {ann  bob}", "do invite { ann}", "do invite {ann", "do invite", "do close {}", "do close x", "Do close", "do enter Ann",
-                     "do enter ann; zed", "do zed; enter ann", "do enter ann\n", "do enter ann bob", "do invite {ann ann}", "do close; ", "do ; close", "do enter ninechars", "close"):
+        for line in ("do", "do ", "do  close", "do close ", " do close", "do close;", "do close;begin", "do close;  begin", "do close ; begin",
+                "do closed", "do enter", "do enter {ann}",
+                     "do invite ann", "do invite {bob ann}", "do invite {ann  bob}", "do invite { ann}", "do invite {ann", "do invite", "do close {}",
+                     "do close x", "Do close", "do enter Ann",
+                     "do enter ann; zed", "do zed; enter ann", "do enter ann\n", "do enter ann bob", "do invite {ann ann}", "do close; ",
+                     "do ; close", "do enter ninechars", "close"):
             self.refuse(console, line)
-        for line in ("show", "show ", "show inside", "show guests ", "show  guests", "show guests awaited", "Show guests", "show Guests", "guests", "field", "field ", "field guests", "field inside ", "field  inside", "field none", "field given", "field inside invited", "inside"):
+        for line in ("show", "show ", "show inside", "show guests ", "show  guests", "show guests awaited", "Show guests", "show Guests", "guests",
+                "field", "field ", "field guests", "field inside ", "field  inside", "field none", "field given", "field inside invited", "inside"):
             self.refuse(console, line)
 
     def test_facts_that_are_none(self):
         console = Console(SAMPLE)
-        for text in ("", "inside", "inside <= ", "inside <= given", "given <= inside", "inside <= zed", "inside  <= invited", "(inside) <= invited", "inside <= invited ", "inside < invited", "inside <= invited <= inside",
-                     f"none <= {text_of(balanced(201)).replace('a', 'inside')}", f"{text_of(chain(21)).replace('a', 'none').replace('b', 'none')} <= none", f"none <= {chain_text(1000)}", f"{chain_text(1000)} <= none", "(" * 4000):
+        for text in ("", "inside", "inside <= ", "inside <= given", "given <= inside", "inside <= zed", "inside  <= invited", "(inside) <= invited",
+                "inside <= invited ", "inside < invited", "inside <= invited <= inside",
+                     f"none <= {text_of(balanced(201)).replace('a', 'inside')}",
+                     f"{text_of(chain(21)).replace('a', 'none').replace('b', 'none')} <= none", f"none <= {chain_text(1000)}",
+                     f"{chain_text(1000)} <= none", "(" * 4000):
             self.refuse(console, f"always {text}")
         self.refuse(console, "always")
         self.refuse(console, "Always none <= none")

@@ -205,7 +205,8 @@ class CasesTest(GuardsCase):
             found = self.check(fact, design, free)
             kind = "doomed" if found is None else "same" if alike(found, design) else "stricter"
             counts[kind, bool(free)] = counts.get((kind, bool(free)), 0) + 1
-        self.assertGreater(min(counts.get(key, 0) for key in (("doomed", True), ("same", True), ("stricter", True), ("same", False), ("stricter", False))), 5, counts)
+        self.assertGreater(min(counts.get(key, 0) for key in (("doomed", True), ("same", True), ("stricter", True), ("same", False), ("stricter",
+                False))), 5, counts)
         self.assertNotIn(("doomed", False), counts)
 
     def test_three_members(self):

@@ -73,10 +73,12 @@ class BesideTest(CloseCase):
         ), (("v", ("a", "b")), ("w", ("c", "c")), ("k", (("&", "c", "d"), ("&", "c", "d"))))))
 
     def test_the_sample(self):
-        late = design_of("l", ("any",), (("enter", "one", (("any", (("given", "l"),), (), "any"),)), ("allow", "many", (("any", (), (("l", "given"),), "any"),))))
+        late = design_of("l", ("any",), (("enter", "one", (("any", (("given", "l"),), (), "any"),)), ("allow", "many", (("any", (), (("l", "given"),),
+                "any"),))))
         both = beside(SAMPLE, late)
         self.assertEqual(both.case_of("enter", "day"), ("day", (("given", "invited"), ("given", "l")), (("inside", ("|", "inside", "given")),), "day"))
-        self.assertEqual([both.case_of("allow", mode) for mode in ("day", "night")], [("day", (), (("l", "given"),), "day"), ("night", (), (("l", "given"),), "night")])
+        self.assertEqual([both.case_of("allow", mode) for mode in ("day", "night")], [("day", (), (("l", "given"),), "day"), ("night", (), (("l",
+                "given"),), "night")])
         self.assertEqual(both.names, SAMPLE.names + ("allow",))
 
     def test_without_calls_and_views(self):
@@ -132,9 +134,11 @@ class NotBesideTest(CloseCase):
         calls = [("p", "one", (("m", (("given", "given"),) * 3, (), "m"),))]
         first = design_of("abc", ("m",), calls + [(f"c{at}", "one", ()) for at in range(6)], [(f"v{at}", ("a",)) for at in range(3)])
         for fields, others, views, many in itertools.product((1, 2), (1, 2), (1, 2), (2, 3)):
-            second = design_of("de"[:fields], ("m",), [("p", "one", (("m", (("given", "given"),) * many, (), "m"),))] + [(f"d{at}", "one", ()) for at in range(others)],
+            second = design_of("de"[:fields], ("m",), [("p", "one", (("m", (("given", "given"),) * many, (), "m"),))] + [(f"d{at}", "one",
+                    ()) for at in range(others)],
                                [(f"w{at}", ("d",)) for at in range(views)])
-            due = (TooManyFields, 4) if fields == 2 else (TooManyCalls, 8) if others == 2 else (TooManyViews, 4) if views == 2 else (TooManyFacts, 5) if many == 3 else None
+            due = (TooManyFields, 4) if fields == 2 else (TooManyCalls, 8) if others == 2 else (TooManyViews, 4) if views == 2 else (TooManyFacts,
+                    5) if many == 3 else None
             if due:
                 self.refused(due[0], {"limit": due[1]}, beside, first, second)
             else:
@@ -146,7 +150,8 @@ class NotBesideTest(CloseCase):
         self.assertEqual(beside(first, design_of("b", ("k",), (("p", "one", ()), ("q", "one", (("k", facts, (), "k"),))))).calls, (
             ("p", "one", ()), ("q", "one", (("m", facts, (), "m"), ("n", facts, (), "n")))))
         self.refused(TooManyFacts, {"limit": 5}, beside, first, design_of("b", ("k",), (("p", "one", (("k", facts[:1], (), "k"),)),)))
-        self.assertEqual(beside(design_of("a", ("m",), (("p", "one", ()),)), design_of("b", ("k",), (("p", "one", (("k", facts, (), "k"),)),))).calls, (("p", "one", ()),))
+        self.assertEqual(beside(design_of("a", ("m",), (("p", "one", ()),)), design_of("b", ("k",), (("p", "one", (("k", facts, (), "k"),)),))).calls,
+                (("p", "one", ()),))
 
 
 def twinned(chance, design, field, twin):

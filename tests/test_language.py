@@ -309,6 +309,10 @@ class LanguageTest(unittest.TestCase):
                 else:
                     self.assertIsInstance(node, (ast.ImportFrom, ast.FunctionDef, ast.ClassDef, ast.Expr), name)
 
+    def test_no_stars_in_indexes(self):
+        for place, node in self.nodes(ast.Subscript):
+            self.assertFalse([part for part in ast.walk(node.slice) if isinstance(part, ast.Starred)], place)
+
     def test_stars_stand_before_names_in_calls(self):
         for place, node in self.nodes(ast.Call):
             for argument in node.args:

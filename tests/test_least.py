@@ -290,7 +290,8 @@ class FewestTest(CloseCase):
             calls = {sort: cases for _, sort, cases in design.calls}
             if len(calls) == 3 and all(calls.values()):
                 calls = tuple((name, sort, calls[sort]) for name, sort in names)
-                design = Design(design.fields, ("m",), tuple((name, sort, tuple(("m", *case[1:3], "m") for case in cases)) for name, sort, cases in calls), (("v", design.views[0][1]),))
+                design = Design(design.fields, ("m",), tuple((name, sort, tuple(("m", *case[1:3], "m") for case in cases)) for name, sort,
+                        cases in calls), (("v", design.views[0][1]),))
                 least = fewest(design)
                 self.assertIs(any(alike(design, one) for one in single), least == 1)
                 found.add(least)
